@@ -1,0 +1,1 @@
+"""Keptandsaid: what must be said and what can be kept."""

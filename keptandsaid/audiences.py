@@ -1,0 +1,59 @@
+"""Audiences: listeners that know some sums of letters and want others: point [7]."""
+
+from keptandsaid.basics import is_below, is_sequence, is_size
+from keptandsaid.errors import InvalidAudience, InvalidMatrix, InvalidNumber
+from keptandsaid.fields import is_field
+from keptandsaid.matrices import is_matrix
+
+
+class Audience:
+    """Listeners, each a pair (knows, wants) of matrices of size columns."""
+
+    def __init__(self, p, size, listeners):
+        _check_audience(p, size, listeners)
+        self.p = p
+        self.size = size
+        self.listeners = tuple(listeners)
+
+    def __eq__(self, other):
+        return (
+            isinstance(other, Audience)
+            and self.p == other.p
+            and self.size == other.size
+            and self.listeners == other.listeners
+        )
+
+    def knowing(self, listener, rows):
+        """The audience in which this listener knows, behind its own, these rows too."""
+        if not is_below(listener, len(self.listeners)):
+            raise InvalidNumber(listener)
+        if not is_matrix(rows, self.p, self.size):
+            raise InvalidMatrix(rows)
+        knows, wants = self.listeners[listener]
+        changed = list(self.listeners)
+        changed[listener] = (knows + rows, wants)
+        return Audience(self.p, self.size, changed)
+
+    def without_listener(self, listener):
+        """The audience of the others, in order."""
+        if not is_below(listener, len(self.listeners)):
+            raise InvalidNumber(listener)
+        others = [pair for number, pair in enumerate(self.listeners) if number != listener]
+        return Audience(self.p, self.size, others)
+
+
+def is_listener(value, p, size):
+    """Whether value, which may be any value at all, is a pair of matrices of size columns."""
+    return isinstance(value, tuple) and len(value) == 2 and all([is_matrix(part, p, size) for part in value])
+
+
+def _check_audience(p, size, listeners):
+    if not is_field(p):
+        raise InvalidAudience("field", 0)
+    if not is_size(size):
+        raise InvalidAudience("size", 0)
+    if not is_sequence(listeners):
+        raise InvalidAudience("listeners", 0)
+    for number, listener in enumerate(listeners):
+        if not is_listener(listener, p, size):
+            raise InvalidAudience("listeners", number)

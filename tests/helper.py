@@ -1,0 +1,104 @@
+"""What several of the tests use."""
+
+import itertools
+
+from keptandsaid.audiences import Audience
+from keptandsaid.errors import InvalidNumber
+
+FIELDS = (2, 3, 5, 7, 11, 13)
+
+
+def deep(value, levels):
+    for level in range(levels):
+        value = [value] if level % 2 else (value,)
+    return value
+
+
+def any_values():
+    """Values of every kind that point [1] names."""
+    return [
+        -1, 0, 1, 2, 3, 4, 12, 13, 14, 10 ** 30, -(10 ** 30), True, False, None,
+        "", "0", "2", "a text", "-", (), [], (0,), [0], (1, 0), [1, 0], ((1, 0),), [(1, 0)], ([1, 0],),
+        ((),), ([],), (None,), (True, False), ((True, False),), ("10",), ((("1", "0"),),), deep(1, 10), deep((), 9),
+        Audience(2, 2, ()), (Audience(2, 2, ()),), ((Audience(2, 2, ()), 1),), [Audience(2, 2, ())],
+    ]
+
+
+def is_int(value):
+    return type(value) is int
+
+
+def words_of(p, columns):
+    return list(itertools.product(range(p), repeat=columns))
+
+
+def product_of(p, one, other):
+    total = 0
+    for k in range(len(one)):
+        total += one[k] * other[k]
+    return total % p
+
+
+def added_up(p, rows, letters, columns):
+    return tuple(sum(row[k] * letter for row, letter in zip(rows, letters, strict=True)) % p for k in range(columns))
+
+
+def spanned(p, rows, columns):
+    """All rows that rows span, by trying: each row doubles, trebles .. what the earlier ones span."""
+    found = {(0,) * columns}
+    for row in rows:
+        found = {tuple((a + letter * b) % p for a, b in zip(one, row)) for one in found for letter in range(p)}
+    return found
+
+
+class Numbers:
+    """Numbers that are the same in every run, for many different matrices and nets."""
+
+    def __init__(self, seed):
+        self.state = seed
+
+    def below(self, bound):
+        self.state = (self.state * 6364136223846793005 + 1442695040888963407) % 2 ** 64
+        return (self.state >> 33) % bound
+
+    def matrix(self, p, rows, columns):
+        return tuple(tuple(self.below(p) for _ in range(columns)) for _ in range(rows))
+
+
+def raised(call, *args, **named):
+    """The error that the call raises, with what it keeps, or None."""
+    try:
+        call(*args, **named)
+    except ValueError as error:
+        return error
+    return None
+
+
+def expect(case, kind, kept, call, *args, **named):
+    """The call raises an error of just this class that keeps just these very values."""
+    error = raised(call, *args, **named)
+    case.assertIs(type(error), kind, (call, args, named))
+    case.assertEqual(list(vars(error)), list(kept), (call, args))
+    for name, value in kept.items():
+        case.assertEqual(kind_of(getattr(error, name)), kind_of(value), (call, args))
+        case.assertEqual(getattr(error, name), value, (call, args))
+    return error
+
+
+def expect_number(case, value, call, *args, **named):
+    error = expect(case, InvalidNumber, {"value": value}, call, *args, **named)
+    case.assertIs(error.value, value)
+
+
+def kind_of(value):
+    """The classes of a value and of all within it, as True and 1, or (1,) and [1], count for unlike here."""
+    if isinstance(value, (list, tuple)):
+        return (type(value), [kind_of(part) for part in value])
+    return type(value)
+
+
+def only_tuples(value):
+    """Whether there is no list and no bool within value."""
+    if isinstance(value, tuple):
+        return all([only_tuples(part) for part in value])
+    return type(value) in (int, type(None)) or not isinstance(value, (list, bool, dict, set))

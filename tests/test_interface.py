@@ -1,0 +1,76 @@
+"""The interface at the end of the document: names, arguments and the files in which they are defined."""
+
+import importlib
+import inspect
+import unittest
+
+FUNCTIONS = {
+    "fields": {"is_field": ("p",), "inverse_of": ("p", "a")},
+    "matrices": {
+        "is_matrix": ("value", "p", "columns"),
+        "reduced_rows": ("p", "rows"),
+        "rank_of": ("p", "rows"),
+        "in_span": ("p", "rows", "row"),
+        "sum_to": ("p", "rows", "row"),
+        "zero_rows": ("p", "rows", "columns"),
+        "products": ("p", "rows", "word"),
+    },
+}
+
+CLASSES = {
+    "errors": {
+        "SayError": {},
+        "InvalidNumber": {"__init__": ("value",)},
+        "InvalidMatrix": {"__init__": ("value",)},
+        "InvalidAudience": {"__init__": ("part", "place")},
+        "InvalidNet": {"__init__": ("part", "place")},
+        "InvalidLot": {"__init__": ("value",)},
+        "InvalidWord": {"__init__": ("value",)},
+        "InvalidWords": {"__init__": ("value",)},
+        "InvalidSignals": {"__init__": ("value",)},
+        "InvalidLosses": {"__init__": ("value",)},
+        "InvalidDeed": {"__init__": ("value",)},
+        "InvalidText": {"__init__": ("text", "at")},
+        "InvalidLine": {"__init__": ("line", "at")},
+        "UnknownWord": {"__init__": ("word",)},
+        "TooMany": {"__init__": ("what",)},
+        "Undefined": {"__init__": ("what",)},
+        "NothingToUndo": {"__init__": ("word",)},
+    },
+    "audiences": {
+        "Audience": {
+            "__init__": ("p", "size", "listeners"),
+            "__eq__": ("other",),
+            "knowing": ("listener", "rows"),
+            "without_listener": ("listener",),
+        },
+    },
+}
+
+
+def named_in(module, name):
+    return getattr(importlib.import_module("keptandsaid." + module), name)
+
+
+class Interface(unittest.TestCase):
+    def test_functions(self):
+        for module, functions in FUNCTIONS.items():
+            for name, parameters in functions.items():
+                found = named_in(module, name)
+                self.assertTrue(inspect.isfunction(found), name)
+                self.assertEqual(found.__module__, "keptandsaid." + module)
+                self.assertEqual(tuple(inspect.signature(found).parameters), parameters, name)
+
+    def test_classes(self):
+        for module, classes in CLASSES.items():
+            for name, methods in classes.items():
+                found = named_in(module, name)
+                self.assertTrue(inspect.isclass(found), name)
+                self.assertEqual(found.__module__, "keptandsaid." + module)
+                for method, parameters in methods.items():
+                    self.assertIn(method, vars(found), name)
+                    self.assertEqual(tuple(inspect.signature(vars(found)[method]).parameters)[1:], parameters, name)
+
+
+if __name__ == "__main__":
+    unittest.main()
