@@ -4,6 +4,7 @@ import itertools
 
 from keptandsaid.audiences import Audience
 from keptandsaid.errors import InvalidNumber
+from keptandsaid.nets import Net
 
 FIELDS = (2, 3, 5, 7, 11, 13)
 
@@ -102,3 +103,19 @@ def only_tuples(value):
     if isinstance(value, tuple):
         return all([only_tuples(part) for part in value])
     return type(value) in (int, type(None)) or not isinstance(value, (list, bool, dict, set))
+
+
+def some_nets(seed, rounds, most=12):
+    """Nets of up to so many places, with few, some or all arcs."""
+    numbers = Numbers(seed)
+    for _ in range(rounds):
+        size = 1 + numbers.below(most)
+        share = numbers.below(5)
+        pairs = [(i, j) for i in range(size) for j in range(size) if i != j]
+        yield Net(size, [pair for pair in pairs if numbers.below(4) < share])
+
+
+def all_nets(size):
+    pairs = [(i, j) for i in range(size) for j in range(size) if i != j]
+    for taken in itertools.product((False, True), repeat=len(pairs)):
+        yield Net(size, [pair for pair, there in zip(pairs, taken) if there])

@@ -15,6 +15,14 @@ FUNCTIONS = {
         "zero_rows": ("p", "rows", "columns"),
         "products": ("p", "rows", "word"),
     },
+    "rings": {
+        "is_ring": ("net", "value"),
+        "some_ring": ("net",),
+        "parts_of": ("net",),
+        "can_order": ("net", "lot"),
+    },
+    "nettexts": {"write_net": ("net",), "read_net": ("text",)},
+    "tellings": {"first_unserved": ("audience", "telling"), "decoder_of": ("audience", "telling", "listener")},
 }
 
 CLASSES = {
@@ -43,6 +51,19 @@ CLASSES = {
             "__eq__": ("other",),
             "knowing": ("listener", "rows"),
             "without_listener": ("listener",),
+        },
+    },
+    "nets": {
+        "Net": {
+            "__init__": ("size", "arcs"),
+            "__eq__": ("other",),
+            "audience": ("p",),
+            "turned": (),
+            "with_arc": ("i", "j"),
+            "without_arc": ("i", "j"),
+            "without_place": ("i",),
+            "within": ("lot",),
+            "renamed": ("order",),
         },
     },
 }
