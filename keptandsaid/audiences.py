@@ -1,9 +1,9 @@
 """Audiences: listeners that know some sums of letters and want others: point [7]."""
 
-from keptandsaid.basics import is_below, is_sequence, is_size
-from keptandsaid.errors import InvalidAudience, InvalidMatrix, InvalidNumber
+from keptandsaid.basics import check_below, is_below, is_sequence, is_size, is_tuple_of
+from keptandsaid.errors import InvalidAudience
 from keptandsaid.fields import is_field
-from keptandsaid.matrices import is_matrix
+from keptandsaid.matrices import check_matrix, is_matrix
 
 
 class Audience:
@@ -25,10 +25,8 @@ class Audience:
 
     def knowing(self, listener, rows):
         """The audience in which this listener knows, behind its own, these rows too."""
-        if not is_below(listener, len(self.listeners)):
-            raise InvalidNumber(listener)
-        if not is_matrix(rows, self.p, self.size):
-            raise InvalidMatrix(rows)
+        check_below(listener, len(self.listeners))
+        check_matrix(rows, self.p, self.size)
         knows, wants = self.listeners[listener]
         changed = list(self.listeners)
         changed[listener] = (knows + rows, wants)
@@ -36,15 +34,22 @@ class Audience:
 
     def without_listener(self, listener):
         """The audience of the others, in order."""
-        if not is_below(listener, len(self.listeners)):
-            raise InvalidNumber(listener)
+        check_below(listener, len(self.listeners))
         others = [pair for number, pair in enumerate(self.listeners) if number != listener]
         return Audience(self.p, self.size, others)
 
 
 def is_listener(value, p, size):
     """Whether value, which may be any value at all, is a pair of matrices of size columns."""
-    return isinstance(value, tuple) and len(value) == 2 and all([is_matrix(part, p, size) for part in value])
+    return is_tuple_of(value, 2) and all([is_matrix(part, p, size) for part in value])
+
+
+def is_want(audience, listener, row):
+    """Whether listener is the number of a listener and row that of a row of its wants; both may be any values."""
+    if not is_below(listener, len(audience.listeners)):
+        return False
+    knows, wants = audience.listeners[listener]
+    return is_below(row, len(wants))
 
 
 def _check_audience(p, size, listeners):

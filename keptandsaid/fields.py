@@ -1,6 +1,6 @@
 """The fields that letters can be taken from: point [5]."""
 
-from keptandsaid.basics import is_below, is_integer
+from keptandsaid.basics import check_below, is_integer
 from keptandsaid.errors import InvalidNumber, Undefined
 
 FIELDS = (2, 3, 5, 7, 11, 13)
@@ -13,11 +13,15 @@ def is_field(p):
 
 def inverse_of(p, a):
     """The letter b with a b = 1 modulo p."""
-    if not is_field(p):
-        raise InvalidNumber(p)
-    if not is_below(a, p):
-        raise InvalidNumber(a)
+    check_field(p)
+    check_below(a, p)
     for b in range(1, p):
         if a * b % p == 1:
             return b
     raise Undefined("inverse")
+
+
+def check_field(p):
+    """Raises an error unless p is a field."""
+    if not is_field(p):
+        raise InvalidNumber(p)

@@ -1,8 +1,8 @@
 """Rows and matrices over a field: point [6]."""
 
-from keptandsaid.basics import is_below, is_size
-from keptandsaid.errors import InvalidMatrix, InvalidNumber, Undefined
-from keptandsaid.fields import inverse_of, is_field
+from keptandsaid.basics import is_below, is_size, is_tuple_of
+from keptandsaid.errors import InvalidMatrix, Undefined
+from keptandsaid.fields import check_field, inverse_of
 
 
 def is_matrix(value, p, columns):
@@ -12,28 +12,26 @@ def is_matrix(value, p, columns):
 
 def reduced_rows(p, rows):
     """The one matrix in reduced form that spans the same rows."""
-    _check_matrix(p, rows)
-    return _reduced(p, rows)
+    _check_some_matrix(p, rows)
+    return reduced_with(p, (), rows)
 
 
 def rank_of(p, rows):
     """How many rows the reduced form of rows has."""
-    _check_matrix(p, rows)
-    return len(_reduced(p, rows))
+    return len(reduced_rows(p, rows))
 
 
 def in_span(p, rows, row):
     """Whether row is a sum of rows times letters."""
-    _check_matrix(p, rows)
-    return len(_reduced(p, rows + (row,))) == len(_reduced(p, rows))
+    return not any(rest_of(p, reduced_rows(p, rows), row))
 
 
 def sum_to(p, rows, row):
     """A letter for each of rows, so that rows times these letters add up to row."""
-    _check_matrix(p, rows)
+    _check_some_matrix(p, rows)
     many = len(rows)
     letters = [0] * many
-    for equation in _reduced(p, _equations(rows, row)):
+    for equation in reduced_with(p, (), _equations(rows, row)):
         lead = _lead_of(equation)
         if lead == many:
             # Such an equation says that 0 is 1.
@@ -45,17 +43,22 @@ def sum_to(p, rows, row):
 
 def zero_rows(p, rows, columns):
     """The reduced matrix that spans all rows whose product with each of rows is 0."""
-    _check_matrix(p, rows)
-    reduced = _reduced(p, rows)
+    reduced = reduced_rows(p, rows)
     leads = [_lead_of(row) for row in reduced]
     free = [column for column in range(columns) if column not in leads]
-    return _reduced(p, tuple([_zero_row(p, reduced, columns, column) for column in free]))
+    return reduced_with(p, (), [_zero_row(p, reduced, columns, column) for column in free])
 
 
 def products(p, rows, word):
     """The values of rows at word."""
-    _check_matrix(p, rows)
+    _check_some_matrix(p, rows)
     return tuple([_product(p, row, word) for row in rows])
+
+
+def check_matrix(value, p, columns):
+    """Raises an error unless value is a matrix of so many columns."""
+    if not is_matrix(value, p, columns):
+        raise InvalidMatrix(value)
 
 
 def one_rows(columns, letters):
@@ -63,67 +66,85 @@ def one_rows(columns, letters):
     return tuple([tuple([int(column == letter) for column in range(columns)]) for letter in letters])
 
 
-def _check_matrix(p, rows):
-    if not is_field(p):
-        raise InvalidNumber(p)
-    if not _is_some_matrix(rows, p):
+def reduced_with(p, reduced, rows):
+    """The reduced form of a reduced matrix and rows together, also of more than 12 columns."""
+    found = reduced
+    for row in rows:
+        found = _reduced_with_row(p, found, row)
+    return found
+
+
+def rest_of(p, reduced, row):
+    """Row less what a reduced matrix spans of it: 0 where its rows lead, and noughts if it spans row."""
+    rest = row
+    for lead in reduced:
+        rest = _cleared(p, rest, lead)
+    return rest
+
+
+def spanned_rows(p, reduced, columns):
+    """All rows that a reduced matrix spans, each once; the first is that of noughts."""
+    found = [(0,) * columns]
+    for row in reduced:
+        found = [sum_of(p, one, letter, row) for letter in range(p) for one in found]
+    return found
+
+
+def sum_of(p, one, letter, other):
+    """The row one plus letter times the row other."""
+    return tuple([(a + letter * b) % p for a, b in zip(one, other)])
+
+
+def _check_some_matrix(p, rows):
+    """Raises an error unless rows is a matrix of the columns of its first row."""
+    check_field(p)
+    if not isinstance(rows, tuple):
         raise InvalidMatrix(rows)
-
-
-def _is_some_matrix(value, p):
-    """Whether value is a matrix of the columns of its first row."""
-    if not isinstance(value, tuple):
-        return False
-    if len(value) == 0:
-        return True
-    first = value[0]
-    return isinstance(first, tuple) and is_size(len(first)) and is_matrix(value, p, len(first))
+    if len(rows) > 0:
+        first = rows[0]
+        if not isinstance(first, tuple) or not is_size(len(first)):
+            raise InvalidMatrix(rows)
+        check_matrix(rows, p, len(first))
 
 
 def _is_row(value, p, columns):
-    return isinstance(value, tuple) and len(value) == columns and all([is_below(letter, p) for letter in value])
+    return is_tuple_of(value, columns) and all([is_below(letter, p) for letter in value])
 
 
 def _product(p, one, other):
     return sum([a * b for a, b in zip(one, other)]) % p
 
 
-def _reduced(p, rows):
-    """reduced_rows of rows that are known to be rows, also of more than 12 letters."""
-    columns = len(rows[0]) if len(rows) > 0 else 0
-    done = []
-    left = rows
-    for column in range(columns):
-        filled = [row for row in left if row[column] != 0]
-        if len(filled) > 0:
-            lead = _with_one(p, filled[0], column)
-            done = [_cleared(p, row, lead, column) for row in done]
-            done.append(lead)
-            # This makes noughts of the row of which lead was made, so it leads no other column.
-            left = [_cleared(p, row, lead, column) for row in left]
-    return tuple(done)
+def _reduced_with_row(p, reduced, row):
+    rest = rest_of(p, reduced, row)
+    if not any(rest):
+        return reduced
+    lead = _with_one(p, rest)
+    # Of two rows of a reduced matrix the one that leads further to the left is the greater tuple.
+    return tuple(sorted([lead] + [_cleared(p, other, lead) for other in reduced], reverse=True))
 
 
-def _with_one(p, row, column):
-    """The multiple of row that has a 1 in this column."""
-    factor = inverse_of(p, row[column])
+def _with_one(p, row):
+    """The multiple of row that begins with a 1 behind noughts."""
+    first = [letter for letter in row if letter != 0][0]
+    factor = inverse_of(p, first)
     return tuple([factor * letter % p for letter in row])
 
 
-def _cleared(p, row, lead, column):
-    """Row less the multiple of lead that makes it 0 in this column, where lead has a 1."""
-    factor = row[column]
-    return tuple([(letter - factor * other) % p for letter, other in zip(row, lead)])
+def _cleared(p, row, lead):
+    """Row less the multiple of lead that makes it 0 in the column of the 1 with which lead begins."""
+    factor = row[_lead_of(lead)]
+    return row if factor == 0 else sum_of(p, row, p - factor, lead)
 
 
 def _lead_of(row):
-    """The column of the first letter of row that is not 0."""
-    return [column for column, letter in enumerate(row) if letter != 0][0]
+    """The column of the 1 with which a row of a reduced matrix begins."""
+    return row.index(1)
 
 
 def _equations(rows, row):
     """For each column what letters for each of rows must fulfil: their factors and, last, the sum."""
-    return tuple([tuple([one[column] for one in rows]) + (row[column],) for column in range(len(row))])
+    return [tuple([one[column] for one in rows]) + (row[column],) for column in range(len(row))]
 
 
 def _zero_row(p, reduced, columns, free):

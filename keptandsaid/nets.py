@@ -1,9 +1,9 @@
 """Nets: each place wants its own letter and knows those of some others: point [8]."""
 
 from keptandsaid.audiences import Audience
-from keptandsaid.basics import is_below, is_lot, is_sequence, is_size
-from keptandsaid.errors import InvalidLot, InvalidNet, InvalidNumber, Undefined
-from keptandsaid.fields import is_field
+from keptandsaid.basics import check_below, is_below, is_lot, is_sequence, is_size, is_tuple_of
+from keptandsaid.errors import InvalidLot, InvalidNet, Undefined
+from keptandsaid.fields import check_field
 from keptandsaid.matrices import one_rows
 
 
@@ -21,8 +21,7 @@ class Net:
 
     def audience(self, p):
         """The audience in which each listener wants the letter of its place and knows as the place does."""
-        if not is_field(p):
-            raise InvalidNumber(p)
+        check_field(p)
         listeners = [
             (one_rows(self.size, known), one_rows(self.size, (place,)))
             for place, known in enumerate(self.knows)
@@ -68,8 +67,7 @@ class Net:
 
     def _check_places(self, places):
         for place in places:
-            if not is_below(place, self.size):
-                raise InvalidNumber(place)
+            check_below(place, self.size)
 
     def _of_places(self, places):
         """The net whose place k is places[k], with the arcs among these."""
@@ -90,9 +88,7 @@ def _check_net(size, arcs):
 
 def _is_arc(value, size):
     """Whether value, which may be any value at all, is a pair of two unlike places."""
-    if not isinstance(value, tuple) or len(value) != 2 or not all([is_below(place, size) for place in value]):
-        return False
-    return value[0] != value[1]
+    return is_tuple_of(value, 2) and all([is_below(place, size) for place in value]) and value[0] != value[1]
 
 
 def _is_order(value, size):

@@ -1,7 +1,6 @@
 """Rings of a net and the parts that they make: point [9]."""
 
-from keptandsaid.basics import is_below, is_lot
-from keptandsaid.errors import InvalidLot
+from keptandsaid.basics import check_lot, is_below
 
 
 def is_ring(net, value):
@@ -44,8 +43,7 @@ def parts_of(net):
 
 def can_order(net, lot):
     """Whether there is no ring within the lot."""
-    if not is_lot(lot, net.size):
-        raise InvalidLot(lot)
+    check_lot(lot, net.size)
     return len(_held_back(net, lot)) == 0
 
 

@@ -1,13 +1,13 @@
 """What is said to all listeners, and whom it serves: point [11]."""
 
-from keptandsaid.basics import is_below
-from keptandsaid.errors import InvalidMatrix, InvalidNumber, Undefined
-from keptandsaid.matrices import in_span, is_matrix, products, sum_to, zero_rows
+from keptandsaid.basics import check_below
+from keptandsaid.errors import Undefined
+from keptandsaid.matrices import check_matrix, in_span, products, sum_to, zero_rows
 
 
 def first_unserved(audience, telling):
     """The first listener that the telling does not serve, with two words that show it, or None."""
-    _check_telling(audience, telling)
+    check_matrix(telling, audience.p, audience.size)
     for listener in range(len(audience.listeners)):
         if not _serves(audience, telling, listener):
             noughts = (0,) * audience.size
@@ -17,18 +17,12 @@ def first_unserved(audience, telling):
 
 def decoder_of(audience, telling, listener):
     """For each row of wants the letters by which the rows of the telling and of knows add up to it."""
-    _check_telling(audience, telling)
-    if not is_below(listener, len(audience.listeners)):
-        raise InvalidNumber(listener)
+    check_matrix(telling, audience.p, audience.size)
+    check_below(listener, len(audience.listeners))
     if not _serves(audience, telling, listener):
         raise Undefined("decoder")
     knows, wants = audience.listeners[listener]
     return tuple([sum_to(audience.p, telling + knows, row) for row in wants])
-
-
-def _check_telling(audience, telling):
-    if not is_matrix(telling, audience.p, audience.size):
-        raise InvalidMatrix(telling)
 
 
 def _serves(audience, telling, listener):

@@ -1,5 +1,6 @@
 """What several of the tests use."""
 
+import functools
 import itertools
 
 from keptandsaid.audiences import Audience
@@ -119,3 +120,57 @@ def all_nets(size):
     pairs = [(i, j) for i in range(size) for j in range(size) if i != j]
     for taken in itertools.product((False, True), repeat=len(pairs)):
         yield Net(size, [pair for pair, there in zip(pairs, taken) if there])
+
+
+def values(p, rows, word):
+    return tuple([product_of(p, row, word) for row in rows])
+
+
+def served(audience, telling, listener):
+    knows, wants = audience.listeners[listener]
+    inside = spanned(audience.p, telling + knows, audience.size)
+    return all(row in inside for row in wants)
+
+
+def some_audiences(seed, rounds, sizes=None, listeners=5):
+    """Audiences whose words can all be gone through: up to what sizes for each field, with how many listeners."""
+    numbers = Numbers(seed)
+    sizes = sizes or {2: 6, 3: 4, 5: 3, 7: 2, 11: 2, 13: 2}
+    fields = sorted(sizes)
+    for _ in range(rounds):
+        p = fields[numbers.below(len(fields))]
+        size = 1 + numbers.below(sizes[p])
+        yield Audience(p, size, [
+            (numbers.matrix(p, numbers.below(3), size), numbers.matrix(p, numbers.below(3), size))
+            for _ in range(numbers.below(listeners))
+        ])
+
+
+def no_matrices():
+    """Values that are no matrix of two columns over 2."""
+    wrong = [((1,),), ((1, 0, 0),), ((1, 0), (1,)), ((0, 2),), [(1, 0)], ([1, 0],), ((),), ((True, 0),), (1, 0), ((-1, 0),)]
+    return wrong + [
+        value for value in any_values()
+        if not (isinstance(value, tuple) and only_tuples(value) and value in ((), ((1, 0),)))
+    ]
+
+
+@functools.lru_cache(maxsize=None)
+def spaces_of(p, size):
+    """All spaces of rows of so many columns, by trying: pairs of a rank and the set of rows that are spanned."""
+    noughts = frozenset([(0,) * size])
+    found = {noughts: 0}
+    newest = [noughts]
+    while newest:
+        longer = []
+        for space in newest:
+            for word in words_of(p, size):
+                if word not in space:
+                    more = frozenset(
+                        tuple((a + letter * b) % p for a, b in zip(one, word)) for one in space for letter in range(p)
+                    )
+                    if more not in found:
+                        found[more] = found[space] + 1
+                        longer.append(more)
+        newest = longer
+    return [(rank, space) for space, rank in found.items()]

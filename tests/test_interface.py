@@ -23,6 +23,19 @@ FUNCTIONS = {
     },
     "nettexts": {"write_net": ("net",), "read_net": ("text",)},
     "tellings": {"first_unserved": ("audience", "telling"), "decoder_of": ("audience", "telling", "listener")},
+    "stores": {
+        "first_unkept": ("audience", "store"),
+        "told_without": ("p", "store", "lot"),
+        "least_spread": ("p", "store"),
+    },
+    "least": {
+        "said_least": ("audience",),
+        "least_telling": ("audience",),
+        "kept_most": ("audience",),
+        "greatest_keeping": ("audience",),
+    },
+    "books": {"book_of": ("audience", "r"), "book_holds": ("audience", "r", "book")},
+    "ladders": {"ladder_holds": ("audience", "ladder"), "lot_ladder": ("net", "p", "lot")},
 }
 
 CLASSES = {

@@ -7,44 +7,18 @@ from keptandsaid.errors import InvalidMatrix, Undefined
 from keptandsaid.nets import Net
 from keptandsaid.tellings import decoder_of, first_unserved
 
-from helper import FIELDS, Numbers, added_up, any_values, expect, expect_number, is_int, only_tuples, product_of, spanned
-from helper import words_of
+from helper import FIELDS, Numbers, added_up, any_values, expect, expect_number, is_int, no_matrices, only_tuples
+from helper import served, some_audiences, values
 
 FIRST = (((1, 0),), ((0, 1),))
 SECOND = (((0, 1),), ((1, 0),))
 THIRD = (((1, 1),), ((1, 0),))
 
 
-def values(p, rows, word):
-    return tuple([product_of(p, row, word) for row in rows])
-
-
-def served(audience, telling, listener):
-    knows, wants = audience.listeners[listener]
-    inside = spanned(audience.p, telling + knows, audience.size)
-    return all(row in inside for row in wants)
-
-
-def some_audiences(seed, rounds):
-    """Audiences, each with a telling, whose words can all be gone through."""
+def some_tellings(seed, rounds):
     numbers = Numbers(seed)
-    for _ in range(rounds):
-        p = FIELDS[numbers.below(6)]
-        size = 1 + numbers.below({2: 6, 3: 4, 5: 3, 7: 2, 11: 2, 13: 2}[p])
-        listeners = [
-            (numbers.matrix(p, numbers.below(3), size), numbers.matrix(p, numbers.below(3), size))
-            for _ in range(numbers.below(5))
-        ]
-        yield Audience(p, size, listeners), numbers.matrix(p, numbers.below(size + 2), size)
-
-
-def no_matrices():
-    """Values that are no matrix of two columns over 2."""
-    wrong = [((1,),), ((1, 0, 0),), ((1, 0), (1,)), ((0, 2),), [(1, 0)], ([1, 0],), ((),), ((True, 0),), (1, 0), ((-1, 0),)]
-    return wrong + [
-        value for value in any_values()
-        if not (isinstance(value, tuple) and only_tuples(value) and value in ((), ((1, 0),)))
-    ]
+    for audience in some_audiences(seed, rounds):
+        yield audience, numbers.matrix(audience.p, numbers.below(audience.size + 2), audience.size)
 
 
 class FirstUnserved(unittest.TestCase):
@@ -77,7 +51,7 @@ class FirstUnserved(unittest.TestCase):
 
     def test_many(self):
         found = set()
-        for audience, telling in some_audiences(31, 500):
+        for audience, telling in some_tellings(31, 500):
             found.add(self.check(audience, telling))
         self.assertTrue({None, 0, 1, 2} <= found)
 
@@ -130,7 +104,7 @@ class DecoderOf(unittest.TestCase):
         self.assertEqual(decoder_of(Audience(2, 2, (((), ((0, 0),)),)), (), 0), ((),))
 
     def test_many(self):
-        for audience, telling in some_audiences(32, 500):
+        for audience, telling in some_tellings(32, 500):
             for listener in range(len(audience.listeners)):
                 if served(audience, telling, listener):
                     self.check(audience, telling, listener)
