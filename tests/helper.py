@@ -9,6 +9,9 @@ from keptandsaid.nets import Net
 
 FIELDS = (2, 3, 5, 7, 11, 13)
 
+# For each field up to how many columns there are few spaces.
+FEW = {2: 6, 3: 5, 5: 4, 7: 4, 11: 3, 13: 3}
+
 
 def deep(value, levels):
     for level in range(levels):
@@ -174,3 +177,33 @@ def spaces_of(p, size):
                         longer.append(more)
         newest = longer
     return [(rank, space) for space, rank in found.items()]
+
+
+# Up to how many places there are at most 81 words.
+MOST = {2: 6, 3: 4, 4: 3, 5: 2}
+
+
+def nets_and_letters(seed, rounds):
+    for net in some_nets(seed, rounds, 6):
+        for q, most in MOST.items():
+            if net.size <= most:
+                yield net, q
+
+
+def all_words(net, q):
+    return list(itertools.product(range(q), repeat=net.size))
+
+
+def places_by_trial(net, one, other):
+    """All places at which both words exclude one another."""
+    return [
+        place for place in range(net.size)
+        if one[place] != other[place] and all(one[known] == other[known] for known in net.knows[place])
+    ]
+
+
+def no_letters(net):
+    """Values that are no number of letters for the net."""
+    numbers = [-1, 0, 1, 6, 7, 11, 13, 81, 10 ** 30, -(10 ** 30)]
+    too_many = [q for q in range(2, 6) if net.size > MOST[q]]
+    return numbers + too_many + [value for value in any_values() + [2.0, "3"] if not is_int(value)]

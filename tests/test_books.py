@@ -9,10 +9,8 @@ from keptandsaid.least import said_least
 from keptandsaid.matrices import is_matrix, reduced_rows
 from keptandsaid.nets import Net
 
-from helper import FIELDS, Numbers, any_values, expect, expect_number, is_int, only_tuples, some_audiences, some_nets
-from helper import spanned
-
-FEW = {2: 6, 3: 5, 5: 4, 7: 4, 11: 3, 13: 3}
+from helper import FEW, FIELDS, Numbers, any_values, expect, expect_number, is_int, only_tuples, some_audiences
+from helper import some_nets, spanned
 
 FIRST = (((1, 0),), ((0, 1),))
 SECOND = (((0, 1),), ((1, 0),))

@@ -36,6 +36,33 @@ FUNCTIONS = {
     },
     "books": {"book_of": ("audience", "r"), "book_holds": ("audience", "r", "book")},
     "ladders": {"ladder_holds": ("audience", "ladder"), "lot_ladder": ("net", "p", "lot")},
+    "netbounds": {
+        "ringless_lot": ("net",),
+        "rings_apart": ("net",),
+        "friend_lots": ("net",),
+        "telling_by_rings": ("net", "p", "rings"),
+        "telling_by_friends": ("net", "p", "lots"),
+    },
+    "making": {
+        "beside_audiences": ("one", "other"),
+        "one_way_audiences": ("one", "other"),
+        "nets_beside": ("one", "other"),
+        "nets_one_way": ("one", "other"),
+        "nets_joined": ("one", "other"),
+        "blocks_of": ("net", "p", "many"),
+        "relettered_audience": ("audience", "matrix"),
+    },
+    "words": {
+        "every_word": ("net", "q"),
+        "excluding_place": ("net", "q", "one", "other"),
+        "first_clash": ("net", "q", "words"),
+        "shifted_words": ("net", "q", "words", "by"),
+    },
+    "broadcasts": {
+        "first_wrong": ("net", "q", "signals"),
+        "decoded_letter": ("net", "q", "signals", "place", "signal", "letters"),
+        "signals_of": ("net", "p", "telling"),
+    },
 }
 
 CLASSES = {

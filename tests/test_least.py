@@ -12,10 +12,9 @@ from keptandsaid.rings import can_order, parts_of, some_ring
 from keptandsaid.stores import first_unkept
 from keptandsaid.tellings import first_unserved
 
-from helper import FIELDS, Numbers, all_nets, any_values, expect, is_int, only_tuples, some_audiences, some_nets
+from helper import FEW, FIELDS, Numbers, all_nets, any_values, expect, is_int, only_tuples, some_audiences, some_nets
 from helper import spaces_of, spanned, values
 
-FEW = {2: 6, 3: 5, 5: 4, 7: 4, 11: 3, 13: 3}
 SMALL = {2: 4, 3: 3, 5: 2, 7: 2, 11: 1, 13: 1}
 
 FIRST = (((1, 0),), ((0, 1),))

@@ -7,7 +7,7 @@ from keptandsaid.audiences import Audience
 from keptandsaid.errors import InvalidLot, InvalidNet, Undefined
 from keptandsaid.nets import Net
 
-from helper import FIELDS, Numbers, any_values, deep, expect, expect_number, is_int, only_tuples, some_nets
+from helper import FIELDS, any_values, deep, expect, expect_number, is_int, only_tuples, some_nets
 
 CHAIN = ((0, 1), (1, 2), (2, 0), (2, 1))
 
