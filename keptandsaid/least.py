@@ -29,9 +29,14 @@ def greatest_keeping(audience):
     return zero_rows(audience.p, least_telling(audience), audience.size)
 
 
+def has_few_spaces(p, size):
+    """Whether there are few spaces of rows of so many columns."""
+    return size <= FEW_SPACES[p]
+
+
 def check_few_spaces(p, size):
     """Raises an error unless there are few spaces of rows of so many columns."""
-    if size > FEW_SPACES[p]:
+    if not has_few_spaces(p, size):
         raise TooMany("spaces")
 
 

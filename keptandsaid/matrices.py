@@ -52,7 +52,7 @@ def zero_rows(p, rows, columns):
 def products(p, rows, word):
     """The values of rows at word."""
     _check_some_matrix(p, rows)
-    return tuple([_product(p, row, word) for row in rows])
+    return tuple([product_of(p, row, word) for row in rows])
 
 
 def check_matrix(value, p, columns):
@@ -95,6 +95,11 @@ def sum_of(p, one, letter, other):
     return tuple([(a + letter * b) % p for a, b in zip(one, other)])
 
 
+def product_of(p, one, other):
+    """The sum of the products of the letters of two rows, also of more than 12 columns."""
+    return sum([a * b for a, b in zip(one, other)]) % p
+
+
 def _check_some_matrix(p, rows):
     """Raises an error unless rows is a matrix of the columns of its first row."""
     check_field(p)
@@ -109,10 +114,6 @@ def _check_some_matrix(p, rows):
 
 def _is_row(value, p, columns):
     return is_tuple_of(value, columns) and all([is_below(letter, p) for letter in value])
-
-
-def _product(p, one, other):
-    return sum([a * b for a, b in zip(one, other)]) % p
 
 
 def _reduced_with_row(p, reduced, row):

@@ -23,7 +23,7 @@ def excluding_place(net, q, one, other):
     check_letters(net, q)
     check_word(net, q, one)
     check_word(net, q, other)
-    return _place_between(net, one, other)
+    return place_between(net, one, other)
 
 
 def first_clash(net, q, words):
@@ -64,19 +64,20 @@ def first_apart(net, words, signals):
     for k, one in enumerate(words):
         for j in range(k + 1, len(words)):
             if signals[j] == signals[k]:
-                place = _place_between(net, one, words[j])
+                place = place_between(net, one, words[j])
                 if place is not None:
                     return (one, words[j], place)
     return None
 
 
-def _is_word(net, q, value):
-    return is_tuple_of(value, net.size) and all([is_below(letter, q) for letter in value])
-
-
-def _place_between(net, one, other):
+def place_between(net, one, other):
+    """The least place at which two words exclude one another, or None."""
     unlike = [place for place in range(net.size) if one[place] != other[place]]
     for place in unlike:
         if not any([known in unlike for known in net.knows[place]]):
             return place
     return None
+
+
+def _is_word(net, q, value):
+    return is_tuple_of(value, net.size) and all([is_below(letter, q) for letter in value])

@@ -4,7 +4,7 @@ import functools
 import itertools
 
 from keptandsaid.audiences import Audience
-from keptandsaid.errors import InvalidNumber
+from keptandsaid.errors import InvalidNumber, InvalidWords
 from keptandsaid.nets import Net
 
 FIELDS = (2, 3, 5, 7, 11, 13)
@@ -207,3 +207,93 @@ def no_letters(net):
     numbers = [-1, 0, 1, 6, 7, 11, 13, 81, 10 ** 30, -(10 ** 30)]
     too_many = [q for q in range(2, 6) if net.size > MOST[q]]
     return numbers + too_many + [value for value in any_values() + [2.0, "3"] if not is_int(value)]
+
+
+def some_words(net, q, numbers, share=4):
+    return tuple(word for word in all_words(net, q) if numbers.below(share) == 0)
+
+
+def some_store(net, q, numbers):
+    """A store, grown by words in a changing order."""
+    words = all_words(net, q)
+    found = []
+    for _ in range(len(words)):
+        word = words.pop(numbers.below(len(words)))
+        if not any(places_by_trial(net, word, other) for other in found):
+            found.append(word)
+    return tuple(sorted(found))
+
+
+def no_words(net, q):
+    """Values that are no word of the net, of every kind."""
+    right = (0,) * net.size
+    wrong = [
+        list(right), right + (0,), right[1:], (q,) + right[1:], right[1:] + (-1,), (True,) + right[1:], right[1:] + (None,),
+        right[1:] + ("0",), (right,), right[1:] + ((0,),), "0" * net.size, right[1:] + (10 ** 30,), right[1:] + (False,),
+    ]
+    return wrong + [
+        value for value in any_values()
+        if not (isinstance(value, tuple) and len(value) == net.size and all(is_int(k) and 0 <= k < q for k in value))
+    ]
+
+
+def no_tuples_of_words(net, q):
+    """Values that are no rising tuple of words of the net, which has three words at least."""
+    words = all_words(net, q)
+    first, second, third = words[0], words[1], words[2]
+    wrong = [
+        (second, first), (first, first), (first, third, second), (first, second, second), [first, second], [],
+        (first, list(second)), first, (first, first + (0,)), (first, second[1:]), (first, second, third, third),
+        (first, second[:-1] + (q,)), (first, second[:-1] + (True,)), (first, None), (None,), (first, second, 5), "",
+        (first, "1"), ((),), (first, second[:-1] + (-1,)), (second, third, first), dict([(first, 1)]),
+    ]
+    right = ((), ((1, 0),))
+    return wrong + [
+        value for value in any_values() if not (isinstance(value, tuple) and only_tuples(value) and value in right)
+    ]
+
+
+def check_words_errors(case, call, rest, net=Net(2, ((0, 1),)), q=2):
+    """InvalidNumber(q), then InvalidWords(words), ahead of all that is wrong with the rest."""
+    for value in no_letters(net):
+        for words in ((), None, ((0, 0), (0, 0))):
+            expect_number(case, value, call, net, value, words, *rest)
+    for words in no_tuples_of_words(net, q):
+        error = expect(case, InvalidWords, {"value": words}, call, net, q, words, *rest)
+        case.assertIs(error.value, words)
+
+
+def whole_net(size):
+    return Net(size, [(i, j) for i in range(size) for j in range(size) if i != j])
+
+
+def two_way_ring(size):
+    pairs = [(i, (i + 1) % size) for i in range(size)]
+    return Net(size, sorted(set(pairs + [(j, i) for i, j in pairs])))
+
+
+def right_signals(net, q, numbers):
+    """The signals of a right broadcast: each word takes one that no word that it excludes has."""
+    words = all_words(net, q)
+    signals = []
+    for k, word in enumerate(words):
+        barred = {signals[j] for j in range(k) if places_by_trial(net, word, words[j])}
+        free = [signal for signal in range(len(words)) if signal not in barred]
+        signals.append(free[numbers.below(2)] if len(free) > 1 else free[0])
+    return tuple(signals)
+
+
+def no_lots(size):
+    """Values that are no lot of places below size."""
+    wrong = [
+        (size,), (-1,), (0, 0), (0, size), list(range(size)), [0], [], 0, None, "0", (True,), (False,), (None,), ("0",),
+        ((0,),), (10 ** 30,), (-(10 ** 30), 0), (0.0,), ((),), ([],), True, "", tuple(range(size + 1)), {0: True},
+    ]
+    if size > 1:
+        wrong += [(1, 0), (1, 1), (0, 1, 0), (0, True), (False, 1), tuple(range(size))[::-1], (size - 1, size)]
+    return wrong + [value for value in any_values() if not isinstance(value, tuple)]
+
+
+def lots_of(size):
+    """All lots, that without a place, too."""
+    return [lot for many in range(size + 1) for lot in itertools.combinations(range(size), many)]

@@ -10,7 +10,7 @@ from keptandsaid.tellings import first_unserved
 from keptandsaid.words import every_word, shifted_words
 
 from helper import MOST, Numbers, all_words, any_values, expect, expect_number, is_int, nets_and_letters, no_letters
-from helper import no_matrices, only_tuples, places_by_trial, product_of, some_nets, spanned
+from helper import no_matrices, only_tuples, places_by_trial, product_of, right_signals, some_nets, spanned
 
 RING = Net(2, ((0, 1), (1, 0)))
 
@@ -23,17 +23,6 @@ def wrong_by_trial(net, q, signals):
             if signals[k] == signals[j] and places:
                 return (one, words[j], places[0])
     return None
-
-
-def right_signals(net, q, numbers):
-    """The signals of a right broadcast: each word takes one that no word that it excludes has."""
-    words = all_words(net, q)
-    signals = []
-    for k, word in enumerate(words):
-        barred = {signals[j] for j in range(k) if places_by_trial(net, word, words[j])}
-        free = [signal for signal in range(len(words)) if signal not in barred]
-        signals.append(free[numbers.below(2)] if len(free) > 1 else free[0])
-    return tuple(signals)
 
 
 def no_signals(net, q):

@@ -4,6 +4,11 @@ import importlib
 import inspect
 import unittest
 
+from keptandsaid.audiences import Audience
+from keptandsaid.nets import Net
+from keptandsaid.places import Places
+from keptandsaid.talks import Talk
+
 FUNCTIONS = {
     "fields": {"is_field": ("p",), "inverse_of": ("p", "a")},
     "matrices": {
@@ -63,6 +68,13 @@ FUNCTIONS = {
         "decoded_letter": ("net", "q", "signals", "place", "signal", "letters"),
         "signals_of": ("net", "p", "telling"),
     },
+    "greatest": {
+        "greatest_store": ("net", "q"),
+        "all_exclude": ("net", "q", "words"),
+        "ringless_words": ("net", "q", "lot"),
+    },
+    "greedy": {"greedy_broadcast": ("net", "q", "words"), "told_row": ("total", "words")},
+    "places": {"comes_back": ("net", "lot"), "alike_outside": ("net", "q", "words", "lot")},
 }
 
 CLASSES = {
@@ -106,7 +118,33 @@ CLASSES = {
             "renamed": ("order",),
         },
     },
+    "talks": {
+        "Talk": {
+            "__init__": ("audience", "word"),
+            "say": (),
+            "hear": ("losses",),
+            "lacking": (),
+            "heard": ("listener",),
+            "got": ("listener",),
+        },
+    },
+    "places": {
+        "Places": {
+            "__init__": ("net", "q", "words"),
+            "put": ("word",),
+            "lose": ("lot",),
+            "remake": (),
+        },
+    },
 }
+
+# A made object of each class that has attributes, and these.
+MADE = [
+    (Audience(2, 1, ()), ("p", "size", "listeners")),
+    (Net(1, ()), ("size", "arcs", "knows")),
+    (Talk(Audience(2, 1, ()), (0,)), ("spoken", "ended")),
+    (Places(Net(1, ()), 2, ((0,),)), ("letters",)),
+]
 
 
 def named_in(module, name):
@@ -131,6 +169,11 @@ class Interface(unittest.TestCase):
                 for method, parameters in methods.items():
                     self.assertIn(method, vars(found), name)
                     self.assertEqual(tuple(inspect.signature(vars(found)[method]).parameters)[1:], parameters, name)
+
+    def test_attributes(self):
+        for made, attributes in MADE:
+            for attribute in attributes:
+                self.assertIn(attribute, vars(made))
 
 
 if __name__ == "__main__":

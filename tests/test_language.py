@@ -4,6 +4,8 @@ import ast
 import os
 import unittest
 
+from keptandsaid import errors
+
 FOLDER = os.path.join(os.path.dirname(os.path.dirname(os.path.abspath(__file__))), "keptandsaid")
 BUILTINS = """len range enumerate zip min max sum abs sorted reversed int str bool list tuple dict set isinstance ord repr
 any all divmod ValueError""".split()
@@ -56,7 +58,7 @@ class Language(unittest.TestCase):
     def test_no_rarer_parts_of_python(self):
         barred = (
             ast.GeneratorExp, ast.AsyncFunctionDef, ast.Await, ast.Global, ast.Lambda, ast.Yield, ast.YieldFrom, ast.Set,
-            ast.Div, ast.AnnAssign, ast.With, ast.Try,
+            ast.Div, ast.AnnAssign, ast.With, ast.NamedExpr, ast.Match, ast.Nonlocal, ast.SetComp,
         )
         for name, text in sources():
             for node in ast.walk(ast.parse(text)):
@@ -64,6 +66,11 @@ class Language(unittest.TestCase):
                 self.assertEqual(getattr(node, "decorator_list", []), [], name)
                 if isinstance(node, ast.Constant) and not isinstance(node.value, str):
                     self.assertIsInstance(node.value, (int, type(None)), name)
+                if isinstance(node, ast.Try):
+                    # Own errors may be caught around anything.
+                    self.assertEqual(node.finalbody, [], name)
+                    for handler in node.handlers:
+                        self.assertTrue(issubclass(getattr(errors, handler.type.id), errors.SayError), name)
 
     def test_names(self):
         for name, text in sources():

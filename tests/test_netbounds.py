@@ -12,15 +12,7 @@ from keptandsaid.rings import is_ring, some_ring
 from keptandsaid.tellings import first_unserved
 
 from helper import FEW, FIELDS, Numbers, all_nets, any_values, expect, expect_number, is_int, only_tuples, some_nets
-
-
-def whole_net(size):
-    return Net(size, [(i, j) for i in range(size) for j in range(size) if i != j])
-
-
-def two_way_ring(size):
-    pairs = [(i, (i + 1) % size) for i in range(size)]
-    return Net(size, sorted(set(pairs + [(j, i) for i, j in pairs])))
+from helper import two_way_ring, whole_net
 
 
 def lots_of(net):

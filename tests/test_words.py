@@ -3,12 +3,13 @@
 import itertools
 import unittest
 
-from keptandsaid.errors import InvalidWord, InvalidWords
+from keptandsaid.errors import InvalidWord
 from keptandsaid.nets import Net
 from keptandsaid.words import every_word, excluding_place, first_clash, shifted_words
 
-from helper import MOST, Numbers, all_nets, all_words, any_values, expect, expect_number, is_int, nets_and_letters
-from helper import no_letters, only_tuples, places_by_trial
+from helper import MOST, Numbers, all_nets, all_words, check_words_errors, expect, expect_number, nets_and_letters
+from helper import no_letters, no_words, only_tuples, places_by_trial, some_store, some_words
+
 
 def clash_by_trial(net, words):
     for one, other in sorted(itertools.combinations(words, 2)):
@@ -16,50 +17,6 @@ def clash_by_trial(net, words):
         if places:
             return (one, other, places[0])
     return None
-
-
-def some_words(net, q, numbers, share=4):
-    return tuple(word for word in all_words(net, q) if numbers.below(share) == 0)
-
-
-def some_store(net, q, numbers):
-    """A store, grown by words in a changing order."""
-    words = all_words(net, q)
-    found = []
-    for _ in range(len(words)):
-        word = words.pop(numbers.below(len(words)))
-        if not any(places_by_trial(net, word, other) for other in found):
-            found.append(word)
-    return tuple(sorted(found))
-
-
-def no_words(net, q):
-    """Values that are no word of the net, of every kind."""
-    right = (0,) * net.size
-    wrong = [
-        list(right), right + (0,), right[1:], (q,) + right[1:], right[1:] + (-1,), (True,) + right[1:], right[1:] + (None,),
-        right[1:] + ("0",), (right,), right[1:] + ((0,),), "0" * net.size, right[1:] + (10 ** 30,), right[1:] + (False,),
-    ]
-    return wrong + [
-        value for value in any_values()
-        if not (isinstance(value, tuple) and len(value) == net.size and all(is_int(k) and 0 <= k < q for k in value))
-    ]
-
-
-def no_tuples_of_words(net, q):
-    """Values that are no rising tuple of words of the net, which has three words at least."""
-    words = all_words(net, q)
-    first, second, third = words[0], words[1], words[2]
-    wrong = [
-        (second, first), (first, first), (first, third, second), (first, second, second), [first, second], [],
-        (first, list(second)), first, (first, first + (0,)), (first, second[1:]), (first, second, third, third),
-        (first, second[:-1] + (q,)), (first, second[:-1] + (True,)), (first, None), (None,), (first, second, 5), "",
-        (first, "1"), ((),), (first, second[:-1] + (-1,)), (second, third, first), dict([(first, 1)]),
-    ]
-    right = ((), ((1, 0),))
-    return wrong + [
-        value for value in any_values() if not (isinstance(value, tuple) and only_tuples(value) and value in right)
-    ]
 
 
 class EveryWord(unittest.TestCase):
@@ -204,16 +161,6 @@ class ShiftedWords(unittest.TestCase):
                 for by in no_words(net, q):
                     error = expect(self, InvalidWord, {"value": by}, shifted_words, net, q, words, by)
                     self.assertIs(error.value, by)
-
-
-def check_words_errors(case, call, rest, net=Net(2, ((0, 1),)), q=2):
-    """InvalidNumber(q), then InvalidWords(words), ahead of all that is wrong with the rest."""
-    for value in no_letters(net):
-        for words in ((), None, ((0, 0), (0, 0))):
-            expect_number(case, value, call, net, value, words, *rest)
-    for words in no_tuples_of_words(net, q):
-        error = expect(case, InvalidWords, {"value": words}, call, net, q, words, *rest)
-        case.assertIs(error.value, words)
 
 
 if __name__ == "__main__":
