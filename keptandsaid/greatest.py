@@ -1,6 +1,5 @@
 """Greatest stores of any kind, and words that all exclude one another: point [20]."""
 
-from keptandsaid.basics import check_lot
 from keptandsaid.errors import TooMany, Undefined
 from keptandsaid.rings import can_order
 from keptandsaid.words import check_letters, check_words, every_word, place_between
@@ -33,7 +32,6 @@ def all_exclude(net, q, words):
 def ringless_words(net, q, lot):
     """All words with 0 outside a lot without a ring within it, ascending."""
     check_letters(net, q)
-    check_lot(lot, net.size)
     if not can_order(net, lot):
         raise Undefined("ring")
     kept_at_nought = [place for place in range(net.size) if place not in lot]
@@ -50,14 +48,15 @@ def _greatest_among(excluded, left):
     if len(left) == 0:
         return []
     counted = [(len([other for other in left if other in excluded[one]]), one) for one in left]
-    fewest, one = min(counted)
+    fewest, quiet = min(counted)
     if fewest <= 1:
         # A greatest list with the single word that this one excludes may as well have this one instead.
-        return [one] + _greatest_among(excluded, _left_beside(excluded, left, one))
-    _, one = max(counted)
-    taken = [one] + _greatest_among(excluded, _left_beside(excluded, left, one))
-    other = _greatest_among(excluded, [k for k in left if k != one])
-    return taken if len(taken) >= len(other) else other
+        return [quiet] + _greatest_among(excluded, _left_beside(excluded, left, quiet))
+    # The word that excludes most leaves few others when it is taken, and takes part in most clashes when it is not.
+    _, loud = max(counted)
+    taken = [loud] + _greatest_among(excluded, _left_beside(excluded, left, loud))
+    spared = _greatest_among(excluded, [k for k in left if k != loud])
+    return taken if len(taken) >= len(spared) else spared
 
 
 def _left_beside(excluded, left, one):

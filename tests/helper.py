@@ -5,6 +5,7 @@ import itertools
 
 from keptandsaid.audiences import Audience
 from keptandsaid.errors import InvalidNumber, InvalidWords
+from keptandsaid.matrices import reduced_rows
 from keptandsaid.nets import Net
 
 FIELDS = (2, 3, 5, 7, 11, 13)
@@ -297,3 +298,102 @@ def no_lots(size):
 def lots_of(size):
     """All lots, that without a place, too."""
     return [lot for many in range(size + 1) for lot in itertools.combinations(range(size), many)]
+
+
+def line_begins(lines):
+    """Where each of the lines begins in their text."""
+    begins = [0]
+    for line in lines:
+        begins.append(begins[-1] + len(line) + 1)
+    return begins[:-1]
+
+
+SIGNS = "0123456789,;- \nknowslistener"
+
+
+def changed_texts(text, numbers, signs=150):
+    """Texts that differ from this one by a line or a sign: left out, doubled, exchanged, changed, put in, cut off."""
+    lines = text.split("\n")
+    yield text
+    yield text + "\n"
+    yield ""
+    for k, line in enumerate(lines):
+        yield "\n".join(lines[:k] + lines[k + 1:])
+        yield "\n".join(lines[:k] + [line, line] + lines[k + 1:])
+        yield "\n".join(lines[:k] + lines[k + 1:k + 2] + [line] + lines[k + 2:])
+        yield "\n".join(lines[:k] + [lines[numbers.below(len(lines))]] + lines[k + 1:])
+        yield "\n".join(lines[:k] + ["", line] + lines[k + 1:])
+        yield "\n".join(lines[:k + 1])
+        yield "\n".join(lines[:k])
+        yield "\n".join(lines[:k] + [line + " "] + lines[k + 1:])
+    for _ in range(signs if text else 0):
+        k = numbers.below(len(text))
+        sign = SIGNS[numbers.below(len(SIGNS))]
+        yield text[:k] + text[k + 1:]
+        yield text[:k] + sign + text[k:]
+        yield text[:k] + sign + text[k + 1:]
+        yield text[:k] + text[k] + text[k:]
+        yield text[:k]
+        yield text[:k] + text[k + 1:k + 2] + text[k] + text[k + 2:]
+
+
+def served_by_trial(audience, space):
+    """Whether each row of wants is a row of the space plus a row that the listener's knows span."""
+    for knows, wants in audience.listeners:
+        known = spanned(audience.p, knows, audience.size)
+        for want in wants:
+            if not any(tuple((a - b) % audience.p for a, b in zip(want, one)) in space for one in known):
+                return False
+    return True
+
+
+def said_by_trial(audience):
+    return min(rank for rank, space in spaces_of(audience.p, audience.size) if served_by_trial(audience, space))
+
+
+def holds_by_trial(audience, r, book):
+    """Whether this tuple of entries of the right kinds is a book, as the document words it."""
+    p, size = audience.p, audience.size
+    spaces = [space for space, listener, row in book]
+    if r == 0 or not spaces:
+        return r == 0 and not spaces
+    if list(book) != sorted(book) or len(set(spaces)) < len(spaces) or () not in spaces:
+        return False
+    for space, listener, row in book:
+        if len(space) >= r or reduced_rows(p, space) != space:
+            return False
+        if not 0 <= listener < len(audience.listeners) or not 0 <= row < len(audience.listeners[listener][1]):
+            return False
+        knows, wants = audience.listeners[listener]
+        if wants[row] in spanned(p, space + knows, size):
+            return False
+        for known in spanned(p, knows, size):
+            more = tuple((a + b) % p for a, b in zip(wants[row], known))
+            if len(space) < r - 1 and reduced_rows(p, space + (more,)) not in spaces:
+                return False
+    return True
+
+
+def some_deed(numbers, audience):
+    """A deed that fits the audience, unless it is about a listener that there is not."""
+    p, size, many = audience.p, audience.size, len(audience.listeners)
+    word = ("join", "join", "join", "leave", "hear", "hear", "say")[numbers.below(7)]
+    row = numbers.matrix(p, 1, size)[0]
+    if word == "join":
+        return ("join", (numbers.matrix(p, numbers.below(size + 1), size), numbers.matrix(p, numbers.below(3), size)))
+    if word == "leave":
+        return ("leave", numbers.below(many + 1))
+    return ("hear", numbers.below(many + 1), row) if word == "hear" else ("say", row)
+
+
+def lead(board, numbers, moves):
+    """Leads a board by some deeds, undos and redos, of which some may raise an error."""
+    for _ in range(moves):
+        kind = numbers.below(5)
+        if kind == 0:
+            raised(board.undo)
+        elif kind == 1:
+            raised(board.redo)
+        else:
+            raised(board.deed, some_deed(numbers, board.audience()))
+    return board

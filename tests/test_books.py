@@ -9,8 +9,8 @@ from keptandsaid.least import said_least
 from keptandsaid.matrices import is_matrix, reduced_rows
 from keptandsaid.nets import Net
 
-from helper import FEW, FIELDS, Numbers, any_values, expect, expect_number, is_int, only_tuples, some_audiences
-from helper import some_nets, spanned
+from helper import FEW, FIELDS, Numbers, any_values, expect, expect_number, holds_by_trial, is_int, only_tuples
+from helper import some_audiences, some_nets, spanned
 
 FIRST = (((1, 0),), ((0, 1),))
 SECOND = (((0, 1),), ((1, 0),))
@@ -21,29 +21,6 @@ BOOK = (((), 0, 0), (((0, 1),), 1, 0), (((1, 1),), 2, 0))
 
 # Their lacks lead from () to all spaces of one row but that of (1, 0, 0), and on from there.
 WIDE = Audience(2, 3, ((((1, 0, 0),), ((0, 1, 0),)), (((0, 1, 1),), ((0, 0, 1), (1, 1, 1))), ((), ((1, 0, 1),))))
-
-
-def holds_by_trial(audience, r, book):
-    """Whether this tuple of entries of the right kinds is a book, as the document words it."""
-    p, size = audience.p, audience.size
-    spaces = [space for space, listener, row in book]
-    if r == 0 or not spaces:
-        return r == 0 and not spaces
-    if list(book) != sorted(book) or len(set(spaces)) < len(spaces) or () not in spaces:
-        return False
-    for space, listener, row in book:
-        if len(space) >= r or reduced_rows(p, space) != space:
-            return False
-        if not 0 <= listener < len(audience.listeners) or not 0 <= row < len(audience.listeners[listener][1]):
-            return False
-        knows, wants = audience.listeners[listener]
-        if wants[row] in spanned(p, space + knows, size):
-            return False
-        for known in spanned(p, knows, size):
-            more = tuple((a + b) % p for a, b in zip(wants[row], known))
-            if len(space) < r - 1 and reduced_rows(p, space + (more,)) not in spaces:
-                return False
-    return True
 
 
 def changed_books(audience, r, book, numbers):

@@ -5,6 +5,7 @@ import inspect
 import unittest
 
 from keptandsaid.audiences import Audience
+from keptandsaid.desk import Desk
 from keptandsaid.nets import Net
 from keptandsaid.places import Places
 from keptandsaid.talks import Talk
@@ -75,6 +76,10 @@ FUNCTIONS = {
     },
     "greedy": {"greedy_broadcast": ("net", "q", "words"), "told_row": ("total", "words")},
     "places": {"comes_back": ("net", "lot"), "alike_outside": ("net", "q", "words", "lot")},
+    "audiencetexts": {"write_audience": ("audience",), "read_audience": ("text",)},
+    "booktexts": {"write_book": ("book",), "read_book": ("p", "size", "text")},
+    "histories": {"board_paper": ("board",), "paper_holds": ("text",), "paper_end": ("text",)},
+    "desk": {"replayed_desk": ("net", "lines")},
 }
 
 CLASSES = {
@@ -136,6 +141,20 @@ CLASSES = {
             "remake": (),
         },
     },
+    "boards": {
+        "Board": {
+            "__init__": ("p", "size"),
+            "audience": (),
+            "said": (),
+            "telling": (),
+            "book": (),
+            "deed": ("deed",),
+            "undo": (),
+            "redo": (),
+            "done": (),
+        },
+    },
+    "desk": {"Desk": {"__init__": ("net",), "run": ("line",)}},
 }
 
 # A made object of each class that has attributes, and these.
@@ -144,6 +163,7 @@ MADE = [
     (Net(1, ()), ("size", "arcs", "knows")),
     (Talk(Audience(2, 1, ()), (0,)), ("spoken", "ended")),
     (Places(Net(1, ()), 2, ((0,),)), ("letters",)),
+    (Desk(Net(1, ())), ("net", "prime", "lines")),
 ]
 
 

@@ -13,23 +13,13 @@ from keptandsaid.stores import first_unkept
 from keptandsaid.tellings import first_unserved
 
 from helper import FEW, FIELDS, Numbers, all_nets, any_values, expect, is_int, only_tuples, some_audiences, some_nets
-from helper import spaces_of, spanned, values
+from helper import said_by_trial, spaces_of, values
 
 SMALL = {2: 4, 3: 3, 5: 2, 7: 2, 11: 1, 13: 1}
 
 FIRST = (((1, 0),), ((0, 1),))
 SECOND = (((0, 1),), ((1, 0),))
 THIRD = (((1, 1),), ((1, 0),))
-
-
-def served_by_trial(audience, space):
-    """Whether each row of wants is a row of the space plus a row that the listener's knows span."""
-    for knows, wants in audience.listeners:
-        known = spanned(audience.p, knows, audience.size)
-        for want in wants:
-            if not any(tuple((a - b) % audience.p for a, b in zip(want, one)) in space for one in known):
-                return False
-    return True
 
 
 def kept_by_trial(audience, space):
@@ -40,10 +30,6 @@ def kept_by_trial(audience, space):
             if seen.setdefault(values(audience.p, knows, word), wanted) != wanted:
                 return False
     return True
-
-
-def said_by_trial(audience):
-    return min(rank for rank, space in spaces_of(audience.p, audience.size) if served_by_trial(audience, space))
 
 
 def kept_most_by_trial(audience):
